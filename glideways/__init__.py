@@ -1,0 +1,1 @@
+"""Glideways: motions by time, exactly."""

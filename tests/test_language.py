@@ -1,0 +1,109 @@
+import ast
+import unittest
+from pathlib import Path
+
+from language_rules import PACKAGE, faults
+
+FOLDER = Path(__file__).resolve().parent.parent / PACKAGE
+FILES = sorted(FOLDER.glob("*.py"))
+
+RIGHT = '''"""A right one."""
+
+from glideways.errors import NoFrac
+
+SOME = (1, 2)
+
+
+class Kept:
+    def __init__(self, one):
+        self.one = one
+
+    def time(self):
+        return self.one
+
+
+def told(some, other=None):
+    if other is None or some in SOME:
+        raise NoFrac(f"no {some}")
+    return [one // 2 for one in some if one > 0]
+'''
+
+WRONG = {
+    "L2": "from fractions import Fraction\n",
+    "L3": "if 1:\n    x = 1\n",
+    "L4": "def f(*some):\n    return some\n",
+    "L5": "class A:\n    x = 1\n",
+    "L6": "def f():\n    assert 1\n",
+    "L7": "def f(x):\n    return x / 2\n",
+    "L8": "def f(x):\n    return pow(x, 2)\n",
+    "L10": "X = '" + "x" * 120 + "'\n",
+    "L12": "def f(x):\n    _y = x\n    return _y\n",
+    "L14": "X = '\u00e4'\n",
+    "L15": "def f(hash):\n    return hash\n",
+    "L16": "import sys\n",
+    "L17": "# a type\n",
+    "L20": "def f(x, y):\n    return x is y\n",
+    "L21": "def f(x: int):\n    return x\n",
+    "L25": "def f(x):\n    return x.title()\n",
+    "L27": "def f(n):\n    return 2 ** n\n",
+}
+
+
+def drawn_from(tree):
+    return [part for part in tree.body if isinstance(part, ast.ImportFrom)]
+
+
+def defined_in(tree):
+    names = [part.name for part in tree.body if isinstance(part, (ast.FunctionDef, ast.ClassDef))]
+    for part in tree.body:
+        if isinstance(part, ast.Assign):
+            names.extend(target.id for target in part.targets)
+    return names
+
+
+class LanguageTest(unittest.TestCase):
+    def test_the_package_holds_plain_files_alone(self):
+        for path in FOLDER.iterdir():
+            if path.name != "__pycache__":
+                self.assertRegex(path.name, r"^([a-z][a-z0-9_]*|__init__|__main__)\.py$")
+
+    def test_each_file_keeps_to_the_rules(self):
+        self.assertTrue(FILES)
+        for path in FILES:
+            with self.subTest(file=path.name):
+                self.assertEqual(faults(path.read_text(encoding="utf-8")), [])
+
+    def test_names_are_drawn_from_the_file_that_defines_them(self):
+        trees = {path.stem: ast.parse(path.read_text(encoding="utf-8")) for path in FILES}
+        for stem, tree in trees.items():
+            for part in drawn_from(tree):
+                there = defined_in(trees[part.module.partition(".")[2]])
+                for name in part.names:
+                    with self.subTest(file=stem, name=name.name):
+                        self.assertIn(name.name, there)
+
+    def test_no_two_files_draw_from_one_another(self):
+        draws = {}
+        for path in FILES:
+            tree = ast.parse(path.read_text(encoding="utf-8"))
+            draws[path.stem] = {part.module.partition(".")[2] for part in drawn_from(tree)} | {"__init__"}
+        draws["__init__"] -= {"__init__"}
+        while draws:
+            free = [stem for stem, others in draws.items() if not others & set(draws)]
+            self.assertTrue(free, f"a ring among {sorted(draws)}")
+            for stem in free:
+                draws.pop(stem)
+
+
+class RulesTest(unittest.TestCase):
+    def test_a_right_file_has_no_fault(self):
+        self.assertEqual(faults(RIGHT), [])
+
+    def test_each_wrong_file_is_told_by_its_rule(self):
+        for rule, text in WRONG.items():
+            with self.subTest(rule=rule):
+                self.assertIn(rule, [fault[0] for fault in faults(text)])
+
+
+if __name__ == "__main__":
+    unittest.main()
