@@ -59,4 +59,7 @@ def turned_kind(kind):
 
 def far_on(kind, many):
     need_kind(kind)
+    if many < 1:
+        # A bound alone refuses nothing, and without parts there is nothing to tell.
+        return []
     return [eased(kind, frac(done, many)) for done in range(many + 1)]

@@ -191,8 +191,13 @@ class FarOnTest(KindCase):
                 self.assertEqual(far_on(kind, 4), asked)
 
     def test_no_kind(self):
-        for many in [1, 2, 5]:
+        for many in [-1, 0, 1, 2, 5]:
             self.assert_no_kind(lambda thing: far_on(thing, many))
+
+    def test_beyond_its_bound_nothing_is_refused(self):
+        for kind in KINDS:
+            for many in [0, -1, -5]:
+                self.assertEqual(far_on(kind, many), [])
 
 
 if __name__ == "__main__":
