@@ -32,6 +32,10 @@ def is_frac(thing):
     return down > 0 and common_divisor(up, down) == 1
 
 
+def is_size(thing):
+    return is_frac(thing) and thing[0] > 0
+
+
 def frac(up, down):
     if down == 0:
         raise NoFrac("the divisor is 0")

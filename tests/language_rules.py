@@ -74,6 +74,38 @@ def top_faults(tree):
             yield ("L15", part.lineno, f"{name} is bound twice")
 
 
+def is_plain(value, above):
+    if isinstance(value, (ast.List, ast.Tuple)):
+        return all(is_plain(one, above) for one in value.elts)
+    if isinstance(value, ast.Dict):
+        return all(one is not None and is_plain(one, above) for one in value.keys + value.values)
+    if isinstance(value, ast.UnaryOp) and isinstance(value.op, ast.USub):
+        return isinstance(value.operand, ast.Constant)
+    return isinstance(value, ast.Constant) or (isinstance(value, ast.Name) and value.id in above)
+
+
+def top_value_faults(tree):
+    above = set()
+    for part in tree.body:
+        if isinstance(part, ast.FunctionDef):
+            above.add(part.name)
+        if isinstance(part, ast.Assign) and not is_plain(part.value, above):
+            yield ("L3", part.lineno, "no plain value for a file's top")
+
+
+def shadow_faults(tree):
+    taken = {part.name for part in tree.body if isinstance(part, ast.ClassDef)}
+    for part in tree.body:
+        if isinstance(part, ast.ImportFrom):
+            taken |= {name.asname or name.name for name in part.names}
+    for part in ast.walk(tree):
+        name = part.arg if isinstance(part, ast.arg) else None
+        if isinstance(part, ast.Name) and isinstance(part.ctx, ast.Store):
+            name = part.id
+        if name in taken:
+            yield ("L15", part.lineno, f"{name} is a class or an import of the file")
+
+
 def import_faults(part):
     if isinstance(part, ast.Import):
         yield ("L16", part.lineno, "import without from")
@@ -162,6 +194,8 @@ def tree_faults(tree):
     classes = [part for part in ast.walk(tree) if isinstance(part, ast.ClassDef)]
     own_methods = {inner.name for one in classes for inner in one.body if isinstance(inner, ast.FunctionDef)}
     yield from top_faults(tree)
+    yield from top_value_faults(tree)
+    yield from shadow_faults(tree)
     for part in ast.walk(tree):
         yield from import_faults(part)
         if isinstance(part, (ast.FunctionDef, ast.Lambda)):

@@ -2,51 +2,22 @@ import unittest
 from fractions import Fraction
 
 from exact import ExactCase, pair, told
-from glideways.errors import GlideError, NoKind
+from glideways.errors import NoKind
 from glideways.fracs import is_less
 from glideways.kinds import eased, far_on, slope, turned_kind
+from measures import EASED, KINDS, SLOPES, TURNED
+from things import HUGE, NO_KINDS
 
-KINDS = ["even", "in", "out", "both", "hold", "jump"]
-TURNED = {"even": "even", "in": "out", "out": "in", "both": "both", "hold": "jump", "jump": "hold"}
-HUGE = 10 ** 300 + 1
 WITHIN = [Fraction(up, 12) for up in range(13)] + [Fraction(1, HUGE), Fraction(HUGE - 1, HUGE)]
 BELOW = [Fraction(-1, HUGE), Fraction(-1, 2), Fraction(-1), Fraction(-7, 3), Fraction(-HUGE)]
 ABOVE = [Fraction(HUGE + 1, HUGE), Fraction(3, 2), Fraction(2), Fraction(22, 7), Fraction(HUGE)]
-
-EASED = {
-    "even": lambda p: p,
-    "in": lambda p: p * p,
-    "out": lambda p: 2 * p - p * p,
-    "both": lambda p: p * p * (3 - 2 * p),
-    "hold": lambda p: Fraction(1 if p == 1 else 0),
-    "jump": lambda p: Fraction(0 if p == 0 else 1),
-}
-SLOPES = {
-    "even": lambda p: Fraction(1),
-    "in": lambda p: 2 * p,
-    "out": lambda p: 2 - 2 * p,
-    "both": lambda p: 6 * (p - p * p),
-    "hold": lambda p: Fraction(0),
-    "jump": lambda p: Fraction(0),
-}
-
-DEEP = "even"
-for step in range(10):
-    DEEP = [DEEP] if step % 2 else (DEEP,)
-NO_KINDS = [
-    "kept", "", "Even", "EVEN", "even ", " even", "evenin", "eve", "e", "turned", "wait", "linear",
-    None, True, False, 0, 1, -1, HUGE, [], ["even"], ["even", "in"], (), ("even",), ("in", "out"), (1, 2),
-    [None], (True,), [["even"]], (("even",),), tuple(KINDS), list(KINDS), DEEP,
-]
 
 
 class KindCase(ExactCase):
     def assert_no_kind(self, call):
         for thing in NO_KINDS:
             with self.subTest(thing=thing):
-                with self.assertRaises(GlideError) as caught:
-                    call(thing)
-                self.assertIs(type(caught.exception), NoKind)
+                self.assert_refused(NoKind, call, thing)
 
 
 class EasedTest(KindCase):
@@ -183,12 +154,7 @@ class FarOnTest(KindCase):
     def test_a_told_list_may_be_changed(self):
         for kind in KINDS:
             with self.subTest(kind=kind):
-                asked = far_on(kind, 4)
-                told_first = far_on(kind, 4)
-                told_first[0] = "changed"
-                told_first.append((5, 1))
-                told_first.reverse()
-                self.assertEqual(far_on(kind, 4), asked)
+                self.assert_list_is_new(far_on, kind, 4)
 
     def test_no_kind(self):
         for many in [-1, 0, 1, 2, 5]:

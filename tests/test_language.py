@@ -28,25 +28,29 @@ def told(some, other=None):
     return [one // 2 for one in some if one > 0]
 '''
 
-WRONG = {
-    "L2": "from fractions import Fraction\n",
-    "L3": "if 1:\n    x = 1\n",
-    "L4": "def f(*some):\n    return some\n",
-    "L5": "class A:\n    x = 1\n",
-    "L6": "def f():\n    assert 1\n",
-    "L7": "def f(x):\n    return x / 2\n",
-    "L8": "def f(x):\n    return pow(x, 2)\n",
-    "L10": "X = '" + "x" * 120 + "'\n",
-    "L12": "def f(x):\n    _y = x\n    return _y\n",
-    "L14": "X = '\u00e4'\n",
-    "L15": "def f(hash):\n    return hash\n",
-    "L16": "import sys\n",
-    "L17": "# a type\n",
-    "L20": "def f(x, y):\n    return x is y\n",
-    "L21": "def f(x: int):\n    return x\n",
-    "L25": "def f(x):\n    return x.title()\n",
-    "L27": "def f(n):\n    return 2 ** n\n",
-}
+WRONG = [
+    ("L2", "from fractions import Fraction\n"),
+    ("L3", "if 1:\n    x = 1\n"),
+    ("L4", "def f(*some):\n    return some\n"),
+    ("L5", "class A:\n    x = 1\n"),
+    ("L6", "def f():\n    assert 1\n"),
+    ("L7", "def f(x):\n    return x / 2\n"),
+    ("L8", "def f(x):\n    return pow(x, 2)\n"),
+    ("L10", "X = '" + "x" * 120 + "'\n"),
+    ("L12", "def f(x):\n    _y = x\n    return _y\n"),
+    ("L14", "X = '\u00e4'\n"),
+    ("L15", "def f(hash):\n    return hash\n"),
+    ("L16", "import sys\n"),
+    ("L17", "# a type\n"),
+    ("L20", "def f(x, y):\n    return x is y\n"),
+    ("L21", "def f(x: int):\n    return x\n"),
+    ("L25", "def f(x):\n    return x.title()\n"),
+    ("L27", "def f(n):\n    return 2 ** n\n"),
+    ("L3", "X = len('x')\n"),
+    ("L3", "from glideways.fracs import ZERO\n\nX = (ZERO, 1)\n"),
+    ("L15", "from glideways.fracs import times\n\n\ndef f(times):\n    return times\n"),
+    ("L15", "from glideways.fracs import over\n\n\ndef f(x):\n    over = x\n    return over\n"),
+]
 
 
 def drawn_from(tree):
@@ -100,8 +104,8 @@ class RulesTest(unittest.TestCase):
         self.assertEqual(faults(RIGHT), [])
 
     def test_each_wrong_file_is_told_by_its_rule(self):
-        for rule, text in WRONG.items():
-            with self.subTest(rule=rule):
+        for rule, text in WRONG:
+            with self.subTest(rule=rule, text=text):
                 self.assertIn(rule, [fault[0] for fault in faults(text)])
 
 
