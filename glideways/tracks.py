@@ -94,11 +94,16 @@ def leaps(track):
     return [time for time in edges(track) if leaps_at(track, time)]
 
 
-def speed_of(track, time):
+def motion_on(track, time):
     begun = begun_by(track, time)
     if len(begun) == 0 or not is_less(time, end_of(begun[-1])):
-        return ZERO
-    return speed_at(begun[-1], time)
+        return None
+    return begun[-1]
+
+
+def speed_of(track, time):
+    motion = motion_on(track, time)
+    return ZERO if motion is None else speed_at(motion, time)
 
 
 def need_track(track):

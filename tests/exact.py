@@ -56,3 +56,15 @@ class ExactCase(unittest.TestCase):
         self.assertEqual(call(*given), asked)
         changed.clear()
         self.assertEqual(call(*given), asked)
+
+    def assert_dict_is_new(self, call, *given):
+        """A told dict may be changed, and what is told later is as before."""
+        asked = dict(call(*given))
+        changed = call(*given)
+        self.assertIs(type(changed), dict)
+        for name in asked:
+            changed[name] = "changed"
+        changed["another"] = "changed"
+        self.assertEqual(call(*given), asked)
+        changed.clear()
+        self.assertEqual(call(*given), asked)

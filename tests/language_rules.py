@@ -28,7 +28,10 @@ METHODS = set(
 PYTHONS_METHODS = {
     name for kind in (str, int, list, tuple, dict, set, bytes) for name in dir(kind) if not name.startswith("__")
 }
-SPECIAL = {"__init__", "__eq__", "__repr__", "__str__", "__len__", "__all__", "__version__"}
+SPECIAL_METHODS = {"__init__", "__eq__", "__repr__", "__str__", "__len__"}
+SPECIAL = SPECIAL_METHODS | {"__all__", "__version__"}
+VALUES_TOO = set("count index title find get join lower upper split strip copy add".split())
+NO_VALUES = (PYTHONS_METHODS | {"args", "encode", "format"}) - VALUES_TOO
 TOP = (ast.ImportFrom, ast.FunctionDef, ast.ClassDef, ast.Assign)
 INNER = (
     ast.FunctionDef, ast.Assign, ast.AugAssign, ast.If, ast.While, ast.For, ast.Return, ast.Break, ast.Continue,
@@ -137,6 +140,34 @@ def class_faults(part):
             yield ("L5", inner.lineno, "a value in a class body")
 
 
+def methods_of(tree):
+    classes = [part for part in ast.walk(tree) if isinstance(part, ast.ClassDef)]
+    return [inner for one in classes for inner in one.body if isinstance(inner, ast.FunctionDef)]
+
+
+def values_given(tree):
+    given = [part for part in ast.walk(tree) if isinstance(part, ast.Attribute)]
+    return [part for part in given if isinstance(part.ctx, ast.Store)]
+
+
+def method_faults(tree):
+    for part in methods_of(tree):
+        if part.name.startswith("__") and part.name not in SPECIAL_METHODS:
+            yield ("L5", part.lineno, f"the method {part.name}")
+        if part.name in PYTHONS_METHODS - METHODS:
+            yield ("L26", part.lineno, f"the method {part.name}")
+        if part.name == "__init__" and any(isinstance(one, ast.Return) and one.value for one in ast.walk(part)):
+            yield ("L28", part.lineno, "__init__ gives something back")
+    for part in values_given(tree):
+        if part.attr in NO_VALUES:
+            yield ("L26", part.lineno, f"the value {part.attr}")
+
+
+def both_method_and_value(trees):
+    methods = {part.name for tree in trees for part in methods_of(tree)}
+    return methods & {part.attr for tree in trees for part in values_given(tree)}
+
+
 def statement_faults(part):
     if not isinstance(part, INNER + (ast.ImportFrom, ast.Import, ast.ClassDef)):
         yield ("L6", part.lineno, "a barred statement")
@@ -191,9 +222,9 @@ def name_faults(part, called, own_methods):
 
 def tree_faults(tree):
     called = [part.func for part in ast.walk(tree) if isinstance(part, ast.Call)]
-    classes = [part for part in ast.walk(tree) if isinstance(part, ast.ClassDef)]
-    own_methods = {inner.name for one in classes for inner in one.body if isinstance(inner, ast.FunctionDef)}
+    own_methods = {part.name for part in methods_of(tree)}
     yield from top_faults(tree)
+    yield from method_faults(tree)
     yield from top_value_faults(tree)
     yield from shadow_faults(tree)
     for part in ast.walk(tree):

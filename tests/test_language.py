@@ -2,7 +2,7 @@ import ast
 import unittest
 from pathlib import Path
 
-from language_rules import PACKAGE, faults
+from language_rules import PACKAGE, both_method_and_value, faults
 
 FOLDER = Path(__file__).resolve().parent.parent / PACKAGE
 FILES = sorted(FOLDER.glob("*.py"))
@@ -48,6 +48,10 @@ WRONG = [
     ("L27", "def f(n):\n    return 2 ** n\n"),
     ("L3", "X = len('x')\n"),
     ("L3", "from glideways.fracs import ZERO\n\nX = (ZERO, 1)\n"),
+    ("L5", "class A:\n    def __add__(self, other):\n        return other\n"),
+    ("L26", "class A:\n    def title(self):\n        return 1\n"),
+    ("L26", "class A:\n    def __init__(self):\n        self.items = 1\n"),
+    ("L28", "class A:\n    def __init__(self):\n        return None\n"),
     ("L15", "from glideways.fracs import times\n\n\ndef f(times):\n    return times\n"),
     ("L15", "from glideways.fracs import over\n\n\ndef f(x):\n    over = x\n    return over\n"),
 ]
@@ -77,6 +81,9 @@ class LanguageTest(unittest.TestCase):
             with self.subTest(file=path.name):
                 self.assertEqual(faults(path.read_text(encoding="utf-8")), [])
 
+    def test_no_name_is_a_method_in_one_class_and_a_value_in_another(self):
+        self.assertEqual(both_method_and_value([ast.parse(path.read_text(encoding="utf-8")) for path in FILES]), set())
+
     def test_names_are_drawn_from_the_file_that_defines_them(self):
         trees = {path.stem: ast.parse(path.read_text(encoding="utf-8")) for path in FILES}
         for stem, tree in trees.items():
@@ -102,6 +109,12 @@ class LanguageTest(unittest.TestCase):
 class RulesTest(unittest.TestCase):
     def test_a_right_file_has_no_fault(self):
         self.assertEqual(faults(RIGHT), [])
+
+    def test_a_name_that_is_both_method_and_value_is_told(self):
+        one = ast.parse("class A:\n    def now(self):\n        return 1\n")
+        other = ast.parse("class B:\n    def __init__(self, now):\n        self.now = now\n")
+        self.assertEqual(both_method_and_value([one, other]), {"now"})
+        self.assertEqual(both_method_and_value([one]), set())
 
     def test_each_wrong_file_is_told_by_its_rule(self):
         for rule, text in WRONG:

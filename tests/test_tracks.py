@@ -8,56 +8,12 @@ from glideways.tracks import (
     end_time, is_track, last_worth, leaps, speed_of, track_moved, track_slowed, with_motion, worth_ahead, worth_behind,
     worth_of,
 )
-from measures import KINDS, asked_speed, asked_worth
+from measures import KINDS, asked_speed
+from some_tracks import (
+    CHAINED, EMPTY, FOUR, NO_TRACKS, ONE, PAUSING, STRAY, TINY, TOUCHING, TRACKS, asked_worth_of, edges, last_begun,
+    times_of,
+)
 from things import HUGE, NO_KINDS, OTHER_THINGS, STILL, a_motion, a_track, nested, spoilt_track, with_part
-
-TINY = Fraction(1, 10 ** 40)
-
-
-def chained(kinds, gaps, worths):
-    """A track of such kinds, each motion starting from the goal of the one ahead, with such pauses between."""
-    begin = Fraction(0)
-    motions = []
-    for place, kind in enumerate(kinds):
-        begin += Fraction(gaps[place])
-        speeds = (3, -2) if kind == "kept" else (0, 0)
-        motions.append(a_motion(worths[place], worths[place + 1], begin, place + 1, kind, *speeds))
-        begin += place + 1
-    return a_track(worths[0], *motions)
-
-
-EMPTY = a_track("5/2")
-ONE = a_track(0, a_motion(0, 4, 2, 4, "even"))
-TOUCHING = a_track(0, a_motion(0, 4, 0, 2, "in"), a_motion(4, 1, 2, 3, "out"))
-PAUSING = a_track(1, a_motion(1, 3, 1, 2, "hold"), a_motion(3, 7, 5, 1, "jump"), a_motion(7, 0, "13/2", "1/2", "both"))
-STRAY = a_track(9, a_motion(0, 4, 0, 2, "even"), a_motion(1, 3, 2, 2, "kept", 1, "-1/2"), a_motion(8, 8, 6, 1, "in"))
-FOUR = with_motion(PAUSING, (2, 3), (9, 1), (1, 3), "in")
-CHAINED = [
-    chained((one, other), gaps, worths)
-    for one in KINDS + ["kept"]
-    for other in KINDS + ["kept"]
-    for gaps in [(0, 0), (1, 0), (0, 1), (-3, "1/2")]
-    for worths in [(0, 1, 0), (1, 5, 2), (2, 2, 3), (2, 3, 3)]
-]
-TRACKS = [EMPTY, ONE, TOUCHING, PAUSING, STRAY] + CHAINED
-
-
-def edges(one):
-    times = [told(part[2]) for part in one[1]] + [told(end_of(part)) for part in one[1]]
-    return sorted(set(times))
-
-
-def times_of(one):
-    """Ahead of all, at and beside every edge, between the edges, and behind all."""
-    at = edges(one) or [Fraction(0)]
-    near = [time + step for time in at for step in (-TINY, 0, TINY)]
-    middles = [(left + right) / 2 for left, right in zip(at, at[1:])]
-    return sorted([at[0] - 7] + near + middles + [at[-1] + 7])
-
-
-def last_begun(one, time):
-    begun = [part for part in one[1] if told(part[2]) <= time]
-    return begun[-1] if begun else None
 
 
 class IsTrackTest(ExactCase):
@@ -128,9 +84,7 @@ class WorthOfTest(ExactCase):
     def test_of_many(self):
         for one in TRACKS:
             for time in times_of(one):
-                begun = last_begun(one, time)
-                asked = told(one[0]) if begun is None else asked_worth(begun, time)
-                self.assert_frac(worth_of(one, pair(time)), asked)
+                self.assert_frac(worth_of(one, pair(time)), asked_worth_of(one, time))
 
 
 class LeapsTest(ExactCase):
@@ -277,7 +231,7 @@ class WithMotionTest(ExactCase):
                 self.assertEqual(found[1][-1], (last_worth(one), (7, 3), begin, (5, 1), kind, STILL))
 
     def test_no_track(self):
-        for thing in OTHER_THINGS + list(spoilt_track(ONE)):
+        for thing in NO_TRACKS:
             with self.subTest(thing=thing):
                 self.assert_refused(NoTrack, with_motion, thing, (1, 1), (9, 1), (1, 1), "even")
 
