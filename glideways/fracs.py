@@ -66,6 +66,13 @@ def over(one, other):
     return frac(one[0] * other[1], one[1] * other[0])
 
 
+def all_plus(some):
+    together = ZERO
+    for one in some:
+        together = plus(together, one)
+    return together
+
+
 def is_less(one, other):
     return one[0] * other[1] < other[0] * one[1]
 

@@ -1,7 +1,7 @@
 """Plans: go, by and wait as steps, then and again to put plans together."""
 
 from glideways.errors import NoPlan
-from glideways.fracs import ZERO, is_frac, is_size, is_whole, over, plus, times
+from glideways.fracs import ZERO, all_plus, is_frac, is_size, is_whole, over, plus, times
 from glideways.kinds import is_kind, turned_kind
 from glideways.motions import plain_motion
 from glideways.tracks import last_worth
@@ -51,10 +51,7 @@ def step_size(step):
 
 
 def size_of(plan):
-    size = ZERO
-    for step in steps_of(plan):
-        size = plus(size, step_size(step))
-    return size
+    return all_plus([step_size(step) for step in steps_of(plan)])
 
 
 def step_goal(step, here):

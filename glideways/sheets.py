@@ -1,7 +1,7 @@
 """Sheets: dicts from names to tracks, which go side by side."""
 
 from glideways.errors import NoName
-from glideways.fracs import ZERO, most_frac, plus
+from glideways.fracs import all_plus, most_frac, plus
 from glideways.plans import need_plan, played
 from glideways.tracks import end_time, motion_on, track_moved, worth_of
 
@@ -24,10 +24,7 @@ def going(sheet, time):
 
 
 def added(sheet, time):
-    together = ZERO
-    for track in sheet.values():
-        together = plus(together, worth_of(track, time))
-    return together
+    return all_plus([worth_of(track, time) for track in sheet.values()])
 
 
 def with_track(sheet, name, track):

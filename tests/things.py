@@ -161,3 +161,28 @@ def spoilt_plan_parts(plan):
             many = [5, 6, -1, -4, HUGE, True, False, None, "", "2", (2, 1), (2,), [2], [], plan[2]]
             yield from [(1, part) for part in many]
         yield from [(2, part) for part in spoilt_plan(plan[2])]
+
+
+SIGNS = [chr(number) for number in range(ord(" "), ord("~") + 1)]
+
+
+def spoilt_signs(text, signs):
+    """The text with a sign taken out, put in or exchanged, at each place."""
+    for place in range(len(text) + 1):
+        yield text[:place] + text[place + 1:]
+        for sign in signs:
+            yield text[:place] + sign + text[place:]
+            yield text[:place] + sign + text[place + 1:]
+
+
+def spoilt_words(text):
+    """The text with a word left out, told twice, or exchanged for another, and with blanks where none are asked."""
+    words = text.split(" ")
+    others = ["go", "by", "wait", "then", "again", "even", "kept", "in", "Go", "x", ""]
+    others += ["0", "1", "-1", "5", "2/4", "1/2"]
+    for place in range(len(words)):
+        ahead, word, behind = words[:place], words[place], words[place + 1:]
+        for instead in [[], [word, word], [word, ""], ["", word]] + [[one] for one in others + words]:
+            yield " ".join(ahead + instead + behind)
+    yield from [" " + text, text + " ", text + text, text + " " + text, text.upper(), text.replace(" ", "  "), ""]
+    yield from [text.replace(" ", sign) for sign in "\t_,-/"]
